@@ -1,0 +1,1 @@
+"""Watchers on strips of like pieces, who tell all places apart."""
