@@ -2,6 +2,9 @@
 
 from hearunlike.errors import InvalidNumber, InvalidSpot
 
+# A piece has one place or two.
+MOST_PLACES = 2
+
 
 def is_whole(value):
     """Return whether a value is a whole number."""
@@ -19,6 +22,12 @@ def is_spot(value, n, places):
     if not isinstance(value, tuple) or len(value) != 2:
         return False
     return is_between(value[0], 0, n - 1) and is_between(value[1], 0, places - 1)
+
+
+def check_places(places):
+    """Raise InvalidNumber unless it is a number of places that a piece may have."""
+    if not is_between(places, 1, MOST_PLACES):
+        raise InvalidNumber(places)
 
 
 def check_count(n):

@@ -1,7 +1,7 @@
 """Webs, which tell kinds of strips, and what is heard in strips."""
 
-from hearunlike.checks import check_count, check_ring, check_spot, is_between
-from hearunlike.errors import InvalidItem, InvalidList, InvalidNumber, InvalidWeb
+from hearunlike.checks import check_count, check_places, check_ring, check_spot, is_between
+from hearunlike.errors import InvalidItem, InvalidList, InvalidWeb
 
 # For each number of places of a piece, how many pieces further on a watcher may hear.
 FARTHEST = {1: 2, 2: 1}
@@ -11,8 +11,7 @@ class Web:
     """A kind of strip: how many places a piece has, and which places hear which."""
 
     def __init__(self, places, hears):
-        if not is_between(places, 1, 2):
-            raise InvalidNumber(places)
+        check_places(places)
         if not isinstance(hears, list):
             raise InvalidList(hears)
         check_items(places, hears)

@@ -2,6 +2,8 @@
 
 import itertools
 import random
+import re
+import time
 
 from hearunlike.webs import Web
 
@@ -11,6 +13,9 @@ NEAR = [(0, 0, -1), (0, 0, 0), (0, 0, 1)]
 ODD = [None, True, False, "a", "", {}, {0: 1}, [[]], ((),)]
 
 ALL_NEEDS = [(a, b) for a in (1, 2, 3) for b in range(2 * a + 1)]
+
+# How long a call may take.
+SECONDS = 5
 
 
 def sample_webs():
@@ -58,11 +63,10 @@ def spots(web, n):
 
 def leads(web, n, watcher, spot, ring):
     """Whether some tuple of the web leads from a watcher to a spot."""
+    gap = spot[0] - watcher[0]
     for i, j, d in web.hears():
-        if (i, j) == (watcher[1], spot[1]):
-            step = watcher[0] + d - spot[0]
-            if step == 0 or ring and step % n == 0:
-                return True
+        if i == watcher[1] and j == spot[1] and (d == gap or ring and (d - gap) % n == 0):
+            return True
     return False
 
 
@@ -76,12 +80,12 @@ def hearers(web, plan, spot, ring):
 
 def fault(web, plan, needs, ring):
     places = spots(web, len(plan))
-    heard = {spot: hearers(web, plan, spot, ring) for spot in places}
+    heard = {spot: set(hearers(web, plan, spot, ring)) for spot in places}
     for spot in places:
         if len(heard[spot]) < needs[0]:
             return ("few", spot)
     for one, other in itertools.combinations(places, 2):
-        if len([w for w in watchers(plan) if (w in heard[one]) != (w in heard[other])]) < needs[1]:
+        if len(heard[one] ^ heard[other]) < needs[1]:
             return ("alike", one, other)
     return None
 
@@ -116,6 +120,51 @@ def two(web, plan, heard, ring):
         either = hearers(web, plan, one, ring) + hearers(web, plan, other, ring)
         if all((w in heard) == (w in either) for w in watchers(plan)):
             found.append((one, other))
+    return found
+
+
+def rule_plan(parts, many):
+    head, block, tail = parts
+    plan = [piece for piece in head]
+    for _ in range(many):
+        plan += block
+    return plan + tail
+
+
+def rule_fault(web, parts, needs, ring, most):
+    """The least number up to the most whose plan is not good, with its fault; it tries them one by one."""
+    for many in range(most + 1):
+        plan = rule_plan(parts, many)
+        if plan:
+            found = fault(web, plan, needs, ring)
+            if found is not None:
+                return (many, found)
+    return None
+
+
+def is_text(text, places):
+    return re.fullmatch("[ \\n]*(?:[oO.]{%d}[ \\n]*)+" % places, text) is not None
+
+
+def text_plan(text, places):
+    """The plan of a value that is a text."""
+    signs = [sign for sign in text if sign in "oO."]
+    return [[j for j in range(places) if signs[k + j] != "."] for k in range(0, len(signs), places)]
+
+
+def lists_in(value):
+    """All list objects in a result, however deep."""
+    if not isinstance(value, (list, tuple)):
+        return []
+    found = [value] if isinstance(value, list) else []
+    return found + [deep for item in value for deep in lists_in(item)]
+
+
+def within_seconds(case, call, *values, **more):
+    """Check that a call ends within seconds, and return what it returns."""
+    begin = time.perf_counter()
+    found = call(*values, **more)
+    case.assertLess(time.perf_counter() - begin, SECONDS, call.__name__)
     return found
 
 

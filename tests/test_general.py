@@ -2,11 +2,10 @@
 
 import copy
 import inspect
-import time
 import unittest
 
 import by_words
-from by_words import NEAR
+from by_words import NEAR, lists_in, within_seconds
 from hearunlike import plans, webs
 from hearunlike.errors import WatchError
 from hearunlike.plans import fault, hearers, idle, is_good, is_plan, two, vital, where
@@ -22,7 +21,6 @@ SIGNATURES = {
     idle: "(web, plan, needs, *, ring=False)",
     vital: "(web, n, needs, *, ring=False)",
 }
-SECONDS = 5
 
 
 def calls_of(web, plan, heard):
@@ -31,14 +29,6 @@ def calls_of(web, plan, heard):
     return [(is_plan, [web, plan]), (hearers, [web, plan, spot]), (fault, [web, plan, (2, 2)]),
             (is_good, [web, plan, (1, 1)]), (where, [web, plan, heard]), (two, [web, plan, heard]),
             (idle, [web, plan, (1, 1)]), (vital, [web, 4, (1, 1)])]
-
-
-def lists_in(value):
-    """All list objects in a result, however deep."""
-    if not isinstance(value, (list, tuple)):
-        return []
-    found = [value] if isinstance(value, list) else []
-    return found + [deep for item in value for deep in lists_in(item)]
 
 
 class Interface(unittest.TestCase):
@@ -121,12 +111,6 @@ class ArgumentsAndResults(unittest.TestCase):
 
 
 class Limits(unittest.TestCase):
-    def within_seconds(self, call, *values, **more):
-        begin = time.perf_counter()
-        found = call(*values, **more)
-        self.assertLess(time.perf_counter() - begin, SECONDS, call.__name__)
-        return found
-
     def plans_at_the_limit(self):
         """The widest webs, each with the longest row and the longest ring of few and of all watchers."""
         for web in by_words.sample_webs()[:4]:
@@ -136,18 +120,18 @@ class Limits(unittest.TestCase):
 
     def test_plans(self):
         for web, plan, ring in self.plans_at_the_limit():
-            self.assertIs(self.within_seconds(is_plan, web, plan), True)
-            self.within_seconds(hearers, web, plan, (len(plan) - 1, 0), ring=ring)
+            self.assertIs(within_seconds(self, is_plan, web, plan), True)
+            within_seconds(self, hearers, web, plan, (len(plan) - 1, 0), ring=ring)
             for needs in ((1, 1), (3, 6)):
-                found = self.within_seconds(fault, web, plan, needs, ring=ring)
-                self.assertIs(self.within_seconds(is_good, web, plan, needs, ring=ring), found is None)
-                self.within_seconds(idle, web, plan, needs, ring=ring)
+                found = within_seconds(self, fault, web, plan, needs, ring=ring)
+                self.assertIs(within_seconds(self, is_good, web, plan, needs, ring=ring), found is None)
+                within_seconds(self, idle, web, plan, needs, ring=ring)
 
     def test_heard(self):
         for web, plan, ring in self.plans_at_the_limit():
             for heard in ([], by_words.watchers(plan), hearers(web, plan, (30, 0), ring=ring)):
-                self.within_seconds(where, web, plan, heard, lies=3, ring=ring)
-                self.within_seconds(two, web, plan, heard, ring=ring)
+                within_seconds(self, where, web, plan, heard, lies=3, ring=ring)
+                within_seconds(self, two, web, plan, heard, ring=ring)
 
     def test_longest_strips_have_their_answers(self):
         web, plan = Web(1, NEAR), [[0]] * 200
@@ -159,14 +143,14 @@ class Limits(unittest.TestCase):
     def test_vital(self):
         for web in by_words.sample_webs():
             for ring in (False, True):
-                self.within_seconds(vital, web, 60, (1, 1), ring=ring)
+                within_seconds(self, vital, web, 60, (1, 1), ring=ring)
         self.assertEqual(vital(Web(1, NEAR), 60, (1, 1)), [(2, 0), (57, 0)])
         self.assertEqual(vital(Web(1, NEAR), 60, (1, 1), ring=True), [])
 
     def test_numbers_of_twenty_digits(self):
         big = 10 ** 20 - 1
         web = Web(1, NEAR)
-        self.assertEqual(self.within_seconds(web.audible, big, (0, 0), ring=True), [(0, 0), (1, 0), (big - 1, 0)])
+        self.assertEqual(within_seconds(self, web.audible, big, (0, 0), ring=True), [(0, 0), (1, 0), (big - 1, 0)])
         self.assertIs(is_plan(web, [[big]]), False)
 
 
