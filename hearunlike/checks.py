@@ -1,9 +1,12 @@
 """Checks of single values that all modules share."""
 
-from hearunlike.errors import InvalidNumber, InvalidSpot
+from hearunlike.errors import InvalidNumber, InvalidPrices, InvalidSpot
 
 # A piece has one place or two.
 MOST_PLACES = 2
+
+# What a watcher costs at most.
+MOST_PRICE = 1000
 
 
 def is_whole(value):
@@ -40,6 +43,14 @@ def check_spot(spot, n, places):
     """Raise InvalidSpot unless it is a spot of a strip of n pieces with so many places each."""
     if not is_spot(spot, n, places):
         raise InvalidSpot(spot)
+
+
+def check_prices(prices, places):
+    """Raise InvalidPrices unless it is a list of as many prices as there are places."""
+    if not isinstance(prices, list) or len(prices) != places:
+        raise InvalidPrices(prices)
+    if not all([is_between(cost, 0, MOST_PRICE) for cost in prices]):
+        raise InvalidPrices(prices)
 
 
 def check_ring(ring):

@@ -1,6 +1,8 @@
 """The answers of DOC.md, worked out slowly and straight from its words, and samples to try."""
 
+import functools
 import itertools
+import math
 import random
 import re
 import time
@@ -121,6 +123,147 @@ def two(web, plan, heard, ring):
         if all((w in heard) == (w in either) for w in watchers(plan)):
             found.append((one, other))
     return found
+
+
+@functools.lru_cache(maxsize=None)
+def asked(places, hears, n, needs, ring):
+    """Tuples (watchers, least) for the spots, and for the pairs of spots, of a strip; watchers as bits."""
+    web = Web(places, list(hears))
+    bits = {spot: 1 << k for k, spot in enumerate(spots(web, n))}
+    heard = [sum(bits[w] for w in bits if leads(web, n, w, spot, ring)) for spot in bits]
+    pairs = itertools.combinations(heard, 2)
+    return [(mask, needs[0]) for mask in heard] + [(one ^ other, needs[1]) for one, other in pairs]
+
+
+def bits_of(web, plan):
+    return sum(1 << (t * web.places + i) for t, i in watchers(plan))
+
+
+def is_good(web, plan, needs, ring=False):
+    """Whether fault tells nothing, but fast enough for many plans."""
+    sits = bits_of(web, plan)
+    rows = asked(web.places, tuple(web.hears()), len(plan), needs, ring)
+    return all((sits & mask).bit_count() >= least for mask, least in rows)
+
+
+@functools.lru_cache(maxsize=None)
+def plans_in_order(places, n):
+    """All plans of n pieces in order, each with its watchers as bits."""
+    web = Web(places, [])
+    return [(plan, bits_of(web, plan)) for plan in sorted(all_plans(web, n))]
+
+
+def good_plans(web, n, needs, ring):
+    """All good plans of n pieces in order, by going through all plans."""
+    found = plans_in_order(web.places, n)
+    for mask, least in asked(web.places, tuple(web.hears()), n, needs, ring):
+        found = [(plan, sits) for plan, sits in found if (sits & mask).bit_count() >= least]
+    return [[list(piece) for piece in plan] for plan, _ in found]
+
+
+def price(prices, plan):
+    return sum(prices[i] for _, i in watchers(plan))
+
+
+def cheapest(plans, prices):
+    """The tuple (least price, plans with this price) of a list of plans."""
+    least = min([price(prices, plan) for plan in plans], default=None)
+    return least, [plan for plan in plans if price(prices, plan) == least]
+
+
+def follows(value, earlier, rise):
+    return value is None if earlier is None else value == earlier + rise
+
+
+def lengths(values):
+    """The tuple (head, period, rise) of values that are told at least as far as four heads and periods together."""
+    for period in range(1, len(values)):
+        rise = 0 if values[-1] is None else values[-1] - values[-1 - period] if values[-1 - period] is not None else 0
+        end = len(values)
+        while end > period and follows(values[end - 1], values[end - 1 - period], rise):
+            end -= 1
+        if end <= len(values) // 2:
+            return values[:end], period, rise
+    return None
+
+
+def unlike(values):
+    """The values of a list, each once."""
+    found = []
+    for value in values:
+        if value not in found:
+            found.append(value)
+    return found
+
+
+def full(web, n):
+    return [list(range(web.places)) for _ in range(n)]
+
+
+def standings(web, needs):
+    """All standings in order, looked at in rings with as many full pieces."""
+    many = 4 * web.reach
+    return [plan for plan in sorted(all_plans(web, many)) if is_good(web, plan + full(web, many), needs, True)]
+
+
+def steps(web, needs):
+    """All tuples (number of a standing, piece, number of the standing to which it leads)."""
+    return steps_of(web.places, tuple(web.hears()), needs)
+
+
+@functools.lru_cache(maxsize=None)
+def steps_of(places, hears, needs):
+    web = Web(places, list(hears))
+    told = standings(web, needs)
+    found = []
+    for k, standing in enumerate(told):
+        for piece in sorted(all_pieces(web)):
+            if is_good(web, standing + [piece] + full(web, 4 * web.reach), needs, True):
+                found.append((k, piece, told.index((standing + [piece])[1:])))
+    return found
+
+
+def is_good_for_ever(web, block, needs):
+    """Whether a block repeated for ever is a good endless plan: a ring of it that is long enough tells."""
+    return is_good(web, block * (4 * web.reach + 1), needs, True)
+
+
+def is_whole(value):
+    return type(value) is int
+
+
+def is_rate_paper(web, needs, prices, told, paper):
+    if type(told) is not tuple or len(told) != 2 or not all(is_whole(x) for x in told):
+        return False
+    top, under = told
+    if under < 1 or math.gcd(top, under) != 1 or type(paper) is not tuple or len(paper) != 2:
+        return False
+    block, worths = paper
+    if type(block) is not list or not block or not all(piece in all_pieces(web) for piece in block):
+        return False
+    if any(not is_whole(i) for piece in block for i in piece) or not is_good_for_ever(web, block, needs):
+        return False
+    if under * price(prices, block) != top * len(block):
+        return False
+    if type(worths) is not list or len(worths) != len(standings(web, needs)) or not all(map(is_whole, worths)):
+        return False
+    return all(worths[after] <= worths[k] + under * price(prices, [piece]) - top
+               for k, piece, after in steps(web, needs))
+
+
+def mended(web, plan, needs, prices, ring):
+    good = [other for other in good_plans(web, len(plan), needs, ring) if set(watchers(plan)) <= set(watchers(other))]
+    return min(cheapest(good, prices)[1], default=None)
+
+
+def parted(web, other, needs, most):
+    """What parts two webs in rows of up to so many pieces."""
+    for n in range(1, most + 1):
+        good = [good_plans(one, n, needs, False) for one in (web, other)]
+        found = sorted([(plan, k) for k in (0, 1) for plan in good[k] if plan not in good[1 - k]])
+        if found:
+            return found[0]
+    return None
 
 
 def rule_plan(parts, many):
