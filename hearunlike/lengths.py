@@ -2,10 +2,11 @@
 
 from math import gcd
 
-from hearunlike.checks import check_prices, check_ring, is_whole
+from hearunlike.checks import check_ring, is_whole
 from hearunlike.courses import least_prices, price_beyond
 from hearunlike.plans import are_pieces, check_needs
 from hearunlike.rates import Steps, least_worths, lowest_mean, tight_loop
+from hearunlike.standings import check_question
 from hearunlike.walks import costs_of
 from hearunlike.webs import check_web
 from hearunlike.windows import numbers_of, plan_of
@@ -61,13 +62,6 @@ def is_rate_paper(web, needs, prices, told, paper):
     block, worths = paper
     steps = Steps(web, needs)
     return is_block(steps, prices, told, block) and are_worths(steps, prices, told, worths)
-
-
-def check_question(web, needs, prices):
-    """Raise the error of the first of the arguments that doesn't fit."""
-    check_web(web)
-    check_needs(needs)
-    check_prices(prices, web.places)
 
 
 def follows(value, earlier, rise):

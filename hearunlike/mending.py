@@ -23,7 +23,7 @@ def mended(web, plan, needs, prices, *, ring=False):
 
 
 def parted(web, other, needs):
-    """Return the first plan that is good as a row for just one of two webs with 0 or 1 for this web, or None."""
+    """Return the first plan that is good as a row for just one of two webs, and the number of this web, or None."""
     check_web(web)
     check_web(other)
     if web.places != other.places:

@@ -50,7 +50,8 @@ def lowest_mean(ahead, costs):
     for _ in range(many):
         last = rows[-1]
         rows.append([min([last[one] for one in nodes]) + cost for nodes, cost in zip(ahead, costs)])
-    # Karp's theorem: the answer is the least, over all nodes, of the greatest of the means of these differences.
+    # Karp's theorem: for each node the greatest of these means counts, told here by the least fall; the least of them
+    # is the answer.
     falls = [lowest([(rows[k][node] - rows[many][node], many - k) for k in range(many)]) for node in range(many)]
     top, under = lowest([(-fall, length) for fall, length in falls])
     divisor = gcd(top, under)
@@ -81,7 +82,7 @@ def least_worths(ahead, weights):
 
 
 def tight_loop(ahead, weights, worths):
-    """Return the nodes of a way around by which the worths never fall short of the weights."""
+    """Return the nodes of a way around by whose steps the worths rise by just the weights."""
     tight = [[one for one in nodes if worths[one] + weight == worth]
              for worth, nodes, weight in zip(worths, ahead, weights)]
     nodes = list(range(len(tight)))

@@ -53,10 +53,15 @@ def plan_at(web, needs, prices, n, at, *, ring=False):
     return plan_of(found.numbers_at(at), web.places)
 
 
-def check_strip(web, needs, prices, n, ring):
+def check_question(web, needs, prices):
     """Raise the error of the first of the arguments that doesn't fit."""
     check_web(web)
     check_needs(needs)
     check_prices(prices, web.places)
+
+
+def check_strip(web, needs, prices, n, ring):
+    """Raise the error of the first of the arguments that doesn't fit."""
+    check_question(web, needs, prices)
     check_count(n)
     check_ring(ring)

@@ -10,7 +10,7 @@ class Windows:
     A state is a run of 4 * reach pieces, told by its number in order. A window is a state and a piece behind it,
     told by `kinds` times the state, plus the piece; it shows whether the spots of its piece number `reach` have
     enough hearers and are unlike all spots of this piece and of those behind it. Pieces beyond the ends of a row
-    are taken for pieces without watchers.
+    are taken for pieces without watchers. A strip is good exactly if all its windows are, except for short rings.
     """
 
     def __init__(self, web, needs, reach):
@@ -24,11 +24,12 @@ class Windows:
         self.bits = bits_of_runs(web.places, self.span + 1)
         self.states = len(self.bits) // self.kinds
         self.good = [False] * len(self.bits)
+        # Spots more than 2 * reach further on have no common hearer with those of this piece.
         for window in self.passing(self.bits, 3 * reach):
             self.good[window] = True
 
     def passing(self, bits, last):
-        """Return the numbers of those of a list of watchers that are good, if piece `last` is the last one of a row."""
+        """Return the numbers of those of a list of watchers that are good as far as the pieces up to `last` show."""
         runs = list(range(len(bits)))
         ones = ones_below(self.web.places * (self.span + 1))
         for mask, least in asked_of(self.web, self.needs, self.reach, last):
@@ -39,7 +40,8 @@ class Windows:
         """Return the states, in order, with which a row of n pieces ends well, if it was good up to there."""
         states = list(range(self.states))
         for beyond in range(max(1, 3 * self.reach + 1 - n), 3 * self.reach + 1):
-            # A state is the window with piece 0 ahead of it; from there on it moves out of sight piece by piece.
+            # A state has the number of the window with piece 0 ahead of it. With each piece beyond the end it moves on
+            # by one piece, until the last one of the row is where the window shows its spots.
             bits = [self.bits[state] >> (beyond * self.web.places) for state in states]
             passed = self.passing(bits, min(3 * self.reach, self.span - beyond))
             states = [states[run] for run in passed]
@@ -99,9 +101,8 @@ def asked_of(web, needs, reach, last):
     for j in range(web.places):
         own = hearer_bits(web, reach, j)
         asked.append((own, few))
-        # Spots further behind have no common hearer with those of this piece.
-        behind = [(t, k) for t in range(reach, last + 1) for k in range(web.places) if (t, k) > (reach, j)]
-        asked.extend([(own ^ hearer_bits(web, t, k), unlike) for t, k in behind])
+        others = [(t, k) for t in range(reach, last + 1) for k in range(web.places) if (t, k) > (reach, j)]
+        asked.extend([(own ^ hearer_bits(web, t, k), unlike) for t, k in others])
     return asked
 
 
